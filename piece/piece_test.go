@@ -186,6 +186,9 @@ func TestOwnMemory(t *testing.T) {
 	room := []byte("abcdef")
 	x := open(t, api.UTF8, room[:3], 100)
 	y := open(t, api.UTF8, room[:3], 100)
+	if string(room) != "abcdef" {
+		t.Errorf("Open wrote into what it was given: %q", room)
+	}
 	copy(room, "zzzzzz")
 	atoms := []int{'d', 'e', 'f', 'g'}
 	edits := []api.Edit{put(0, 0, atoms[:2]...), put(1, 2, 'B'), put(3, 3)}
