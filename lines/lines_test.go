@@ -86,8 +86,10 @@ func TestNative(t *testing.T) {
 
 // All short texts of letters, CRs and LFs, at every number and offset.
 func TestShortTexts(t *testing.T) {
-	for i, s := range short(8) {
-		sameAll(t, load(t, encodings[i%4], letters(s)))
+	for _, s := range short(7) {
+		for _, enc := range encodings {
+			sameAll(t, load(t, enc, letters(s)))
+		}
 	}
 }
 
