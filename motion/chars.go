@@ -2,6 +2,7 @@ package motion
 
 import (
 	"copyist/api"
+	"copyist/cells"
 	"copyist/lines"
 	"copyist/piece"
 )
@@ -32,8 +33,8 @@ func charWays() ways {
 
 func (s stand) left() (api.Land, api.Errno) {
 	to, left := s.at, s.times()
-	for c := range within(downward(s.text, s.at)) {
-		to = c.at
+	for c := range cells.Within(cells.Down(s.text, s.at)) {
+		to = c.At
 		if left--; left == 0 {
 			break
 		}
@@ -46,8 +47,8 @@ func (s stand) left() (api.Land, api.Errno) {
 
 func (s stand) right() (api.Land, api.Errno) {
 	to, left := s.at, s.times()
-	for c := range within(upward(s.text, s.at)) {
-		to = c.end
+	for c := range cells.Within(cells.Up(s.text, s.at)) {
+		to = c.End
 		if left--; left == 0 {
 			break
 		}
@@ -92,39 +93,39 @@ func (s stand) till() (api.Land, api.Errno) {
 // sought tells where the cluster is that is sought behind the cursor, and where the one ahead of it.
 func (s stand) sought() (ahead, found int, ok bool) {
 	left := s.times()
-	for c := range within(upward(s.text, s.at)) {
-		if c.at > s.at && c.atom == s.arg {
+	for c := range cells.Within(cells.Up(s.text, s.at)) {
+		if c.At > s.at && c.Atom == s.arg {
 			if left--; left == 0 {
-				return ahead, c.at, true
+				return ahead, c.At, true
 			}
 		}
-		ahead = c.at
+		ahead = c.At
 	}
 	return 0, 0, false
 }
 
 func (s stand) findBack() (api.Land, api.Errno) {
 	if c, ok := s.soughtBack(); ok {
-		return s.exclusive(c.at)
+		return s.exclusive(c.At)
 	}
 	return nowhere()
 }
 
 func (s stand) tillBack() (api.Land, api.Errno) {
 	if c, ok := s.soughtBack(); ok {
-		return s.exclusive(c.end)
+		return s.exclusive(c.End)
 	}
 	return nowhere()
 }
 
-func (s stand) soughtBack() (cell, bool) {
+func (s stand) soughtBack() (cells.Cell, bool) {
 	left := s.times()
-	for c := range within(downward(s.text, s.at)) {
-		if c.atom == s.arg {
+	for c := range cells.Within(cells.Down(s.text, s.at)) {
+		if c.Atom == s.arg {
 			if left--; left == 0 {
 				return c, true
 			}
 		}
 	}
-	return cell{}, false
+	return cells.Cell{}, false
 }

@@ -4,6 +4,7 @@ import (
 	"iter"
 
 	"copyist/api"
+	"copyist/cells"
 	"copyist/glyph"
 	"copyist/piece"
 )
@@ -66,23 +67,23 @@ type row struct {
 }
 
 // with tells the row when a cell of its content has come to it.
-func (r row) with(c cell) row {
-	return row{from: r.from, blank: r.blank && glyph.Word(c.atom) == glyph.Blank}
+func (r row) with(c cells.Cell) row {
+	return row{from: r.from, blank: r.blank && glyph.Word(c.Atom) == glyph.Blank}
 }
 
 // rowsUp goes through the rows from the one of the place on to the last one.
 func (s stand) rowsUp() iter.Seq[row] {
 	return func(yield func(row) bool) {
 		r := row{from: s.line.From, blank: true}
-		for c := range upward(s.text, s.line.From) {
-			if !c.isBreak() {
+		for c := range cells.Up(s.text, s.line.From) {
+			if !c.IsBreak() {
 				r = r.with(c)
 				continue
 			}
 			if !yield(r) {
 				return
 			}
-			r = row{from: c.end, blank: true}
+			r = row{from: c.End, blank: true}
 		}
 		if r.from < s.text.Len() { // else it is the tail, which is no line
 			yield(r)
@@ -94,12 +95,12 @@ func (s stand) rowsUp() iter.Seq[row] {
 func (s stand) rowsDown() iter.Seq[row] {
 	return func(yield func(row) bool) {
 		r := row{blank: true}
-		for c := range downward(s.text, s.line.To) {
-			if !c.isBreak() {
+		for c := range cells.Down(s.text, s.line.To) {
+			if !c.IsBreak() {
 				r = r.with(c)
 				continue
 			}
-			r.from = c.end
+			r.from = c.End
 			if !yield(r) {
 				return
 			}
@@ -110,43 +111,43 @@ func (s stand) rowsDown() iter.Seq[row] {
 }
 
 func (s stand) match() (api.Land, api.Errno) {
-	for c := range within(upward(s.text, s.at)) {
+	for c := range cells.Within(cells.Up(s.text, s.at)) {
 		switch other, opens := fellow(c); {
 		case opens:
-			return s.matchOf(c, other, upward(s.text, c.end))
+			return s.matchOf(c, other, cells.Up(s.text, c.End))
 		case other != 0:
-			return s.matchOf(c, other, downward(s.text, c.at))
+			return s.matchOf(c, other, cells.Down(s.text, c.At))
 		}
 	}
 	return nowhere()
 }
 
 // matchOf goes from a bracket to the first one at which as many of the other sort as of its own have been met.
-func (s stand) matchOf(bracket cell, other int, cells iter.Seq[cell]) (api.Land, api.Errno) {
+func (s stand) matchOf(bracket cells.Cell, other int, way iter.Seq[cells.Cell]) (api.Land, api.Errno) {
 	open := 1
-	for c := range cells {
-		if !c.isSingle() {
+	for c := range way {
+		if !c.IsSingle() {
 			continue
 		}
-		switch c.atom {
-		case bracket.atom:
+		switch c.Atom {
+		case bracket.Atom:
 			open++
 		case other:
 			open--
 		}
 		if open == 0 {
-			return s.inclusive(c.at)
+			return s.inclusive(c.At)
 		}
 	}
 	return nowhere()
 }
 
 // fellow tells the other bracket of a bracket's pair, and whether this one opens; 0 of a cell that is no bracket.
-func fellow(c cell) (other int, opens bool) {
-	if !c.isSingle() {
+func fellow(c cells.Cell) (other int, opens bool) {
+	if !c.IsSingle() {
 		return 0, false
 	}
-	switch c.atom {
+	switch c.Atom {
 	case '(':
 		return ')', true
 	case '[':

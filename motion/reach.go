@@ -2,6 +2,7 @@ package motion
 
 import (
 	"copyist/api"
+	"copyist/cells"
 	"copyist/lines"
 	"copyist/piece"
 )
@@ -32,8 +33,8 @@ func endBelow(t *piece.Text, lo, hi int) int {
 
 // endBehind tells where a span ends that takes the cluster that begins at hi, if one does.
 func endBehind(t *piece.Text, hi int) int {
-	for c := range within(upward(t, hi)) {
-		return c.end
+	for c := range cells.Within(cells.Up(t, hi)) {
+		return c.End
 	}
 	return hi
 }

@@ -4,6 +4,7 @@ import (
 	"iter"
 
 	"copyist/api"
+	"copyist/cells"
 	"copyist/glyph"
 	"copyist/piece"
 )
@@ -126,24 +127,24 @@ const broken = 3
 // side is one of the two cells that meet at a seam: where it begins, and its kind.
 type side struct{ at, kind int }
 
-func (s stand) side(c cell) side {
-	if c.isBreak() {
-		return side{at: c.at, kind: broken}
+func (s stand) side(c cells.Cell) side {
+	if c.IsBreak() {
+		return side{at: c.At, kind: broken}
 	}
-	kind := glyph.Word(c.atom)
+	kind := glyph.Word(c.Atom)
 	if s.big && kind == glyph.Sign {
 		kind = glyph.Letter
 	}
-	return side{at: c.at, kind: kind}
+	return side{at: c.At, kind: kind}
 }
 
 // seamsUp goes through the seams above the place. The text's end is none of them: a motion that finds too little goes there anyway.
 func (s stand) seamsUp() iter.Seq2[side, side] {
 	return func(yield func(left, right side) bool) {
 		var left side
-		for c := range upward(s.text, s.at) {
+		for c := range cells.Up(s.text, s.at) {
 			right := s.side(c)
-			if c.at > s.at && !yield(left, right) {
+			if c.At > s.at && !yield(left, right) {
 				return
 			}
 			left = right
@@ -155,7 +156,7 @@ func (s stand) seamsUp() iter.Seq2[side, side] {
 func (s stand) seamsDown() iter.Seq2[side, side] {
 	return func(yield func(left, right side) bool) {
 		right := s.sideHere()
-		for c := range downward(s.text, s.at) {
+		for c := range cells.Down(s.text, s.at) {
 			left := s.side(c)
 			if !yield(left, right) {
 				return
@@ -167,7 +168,7 @@ func (s stand) seamsDown() iter.Seq2[side, side] {
 
 // sideHere tells the cell that begins at the place. The text's end ends a word as a break does.
 func (s stand) sideHere() side {
-	for c := range upward(s.text, s.at) {
+	for c := range cells.Up(s.text, s.at) {
 		return s.side(c)
 	}
 	return side{at: s.at, kind: broken}

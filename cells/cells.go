@@ -1,4 +1,5 @@
-package motion
+// Package cells: the clusters of a text, gone through a window at a time, so that a call reads no more than its way.
+package cells
 
 import (
 	"iter"
@@ -13,23 +14,26 @@ const (
 	carriage = 13
 )
 
-// cell is a cluster of the text. A break is one too: the rules of clusters part it from all others, and keep its two atoms together.
-type cell struct {
-	at, end int
-	atom    int // the first one, which decides what the cell is
+// Cell is a cluster of the text. A break is one too: the rules of clusters part it from all others, and keep its two atoms together.
+type Cell struct {
+	At, End int
+	Atom    int // the first one, which decides what the cell is
 }
 
-func (c cell) isBreak() bool { return c.atom == lineFeed || c.atom == carriage }
+func (c Cell) IsBreak() bool { return c.Atom == lineFeed || c.Atom == carriage }
 
-// isSingle tells whether the cell is one atom and nothing else.
-func (c cell) isSingle() bool { return c.end == c.at+1 }
+// IsSingle tells whether the cell is one atom and nothing else.
+func (c Cell) IsSingle() bool { return c.End == c.At+1 }
+
+// Is tells whether the cell is this atom and nothing else.
+func (c Cell) Is(atom int) bool { return c.Atom == atom && c.IsSingle() }
 
 // window is how many atoms a scanner reads at first. Each further window is twice as long: so a short way costs little, and of a long one no more than half is read in vain.
 const window = 32
 
-// upward goes through the cells from a boundary on, up to the text's end.
-func upward(t *piece.Text, at int) iter.Seq[cell] {
-	return func(yield func(cell) bool) {
+// Up goes through the cells from a boundary on, up to the text's end.
+func Up(t *piece.Text, at int) iter.Seq[Cell] {
+	return func(yield func(Cell) bool) {
 		n := t.Len()
 	windows:
 		for from, size := at, window; from < n; size *= 2 {
@@ -42,7 +46,7 @@ func upward(t *piece.Text, at int) iter.Seq[cell] {
 					from += k
 					continue windows
 				}
-				if !yield(cell{at: from + k, end: from + end, atom: atoms[k]}) {
+				if !yield(Cell{At: from + k, End: from + end, Atom: atoms[k]}) {
 					return
 				}
 				k = end
@@ -52,15 +56,15 @@ func upward(t *piece.Text, at int) iter.Seq[cell] {
 	}
 }
 
-// downward goes through the cells ahead of a boundary, the nearest first, down to the text's beginning.
-func downward(t *piece.Text, at int) iter.Seq[cell] {
-	return func(yield func(cell) bool) {
+// Down goes through the cells ahead of a boundary, the nearest first, down to the text's beginning.
+func Down(t *piece.Text, at int) iter.Seq[Cell] {
+	return func(yield func(Cell) bool) {
 		for to, size := at, window; to > 0; size *= 2 {
 			from := cut(t, to-size)
 			atoms := t.Atoms(from, to)
 			bounds := cluster.Breaks(atoms)
 			for k := len(bounds) - 2; k >= 0; k-- {
-				if !yield(cell{at: from + bounds[k], end: from + bounds[k+1], atom: atoms[bounds[k]]}) {
+				if !yield(Cell{At: from + bounds[k], End: from + bounds[k+1], Atom: atoms[bounds[k]]}) {
 					return
 				}
 			}
@@ -69,15 +73,25 @@ func downward(t *piece.Text, at int) iter.Seq[cell] {
 	}
 }
 
-// within leaves off at a break.
-func within(cells iter.Seq[cell]) iter.Seq[cell] {
-	return func(yield func(cell) bool) {
-		for c := range cells {
-			if c.isBreak() || !yield(c) {
+// Within leaves off at a break.
+func Within(all iter.Seq[Cell]) iter.Seq[Cell] {
+	return func(yield func(Cell) bool) {
+		for c := range all {
+			if c.IsBreak() || !yield(c) {
 				return
 			}
 		}
 	}
+}
+
+// Of tells the cell that the atom at an offset belongs to. At the text's end there is none: a cell of nothing.
+func Of(t *piece.Text, at int) Cell {
+	for c := range Up(t, cut(t, at)) {
+		if c.End > at {
+			return c
+		}
+	}
+	return Cell{At: at, End: at}
 }
 
 // cut tells a boundary up to an offset, as near as one is known without reading the line from its beginning.
@@ -102,16 +116,4 @@ func parted(pair []int) bool {
 		return false // what stands ahead of these alone may join what stands behind them
 	}
 	return cluster.IsBreak(pair, 1)
-}
-
-// snap tells the greatest boundary up to the offset of an atom.
-func snap(t *piece.Text, at int) int {
-	from := cut(t, at)
-	for c := range upward(t, from) {
-		if c.end > at {
-			break
-		}
-		from = c.end
-	}
-	return from
 }
