@@ -13,7 +13,7 @@ func (d *Desk) Case(how int, s api.Span) api.Errno {
 		c.checkSpan(s)
 		checkAny(s)
 		if s.Kind == api.ByLines {
-			top, bottom := c.linesEnds(s)
+			top, bottom := c.outerLines(s)
 			s.From, s.To = top.From, bottom.Next
 		}
 		c.change(c.here(), c.turned(s, turn)...)

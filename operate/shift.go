@@ -24,7 +24,7 @@ func (d *Desk) Shift(s api.Span, steps int) api.Errno {
 	})
 }
 
-// toRight gives up as soon as the tabs alone are more than any text may have: of all lines they may be very many.
+// toRight leaves off as soon as the tabs alone are more than any text may have: the book refuses these as it would refuse all of them.
 func (c *call) toRight(first, last, steps int) []api.Edit {
 	tabs := slices.Repeat([]int{tab}, steps)
 	var edits []api.Edit
@@ -34,7 +34,7 @@ func (c *call) toRight(first, last, steps int) []api.Edit {
 		}
 		edits = append(edits, api.Edit{From: r.from, To: r.from, Put: tabs})
 		if len(edits)*steps > api.MaxBytes {
-			giveUp(api.ErrFull)
+			break
 		}
 	}
 	return edits

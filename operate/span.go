@@ -38,8 +38,8 @@ func (c *call) line(number int) api.Line {
 	return line
 }
 
-// linesEnds tells the first and the last line of a span.
-func (c *call) linesEnds(s api.Span) (top, bottom api.Line) {
+// outerLines tells the first and the last line of a span.
+func (c *call) outerLines(s api.Span) (top, bottom api.Line) {
 	first, last := c.linesOf(s)
 	return c.line(first), c.line(last)
 }
@@ -49,7 +49,7 @@ func (c *call) taken(s api.Span) api.Reg {
 	if s.Kind == api.ByChars {
 		return api.Reg{Kind: api.ByChars, Text: c.text.Atoms(s.From, s.To)}
 	}
-	top, bottom := c.linesEnds(s)
+	top, bottom := c.outerLines(s)
 	text := c.text.Atoms(top.From, bottom.Next)
 	if bottom.Break == api.NoBreak {
 		text = slices.Concat(text, c.nativeBreak())
@@ -67,16 +67,16 @@ func (r row) to() int { return r.from + len(r.content) }
 
 // rows goes through lines by their numbers. Their atoms are read at once: to ask the text for each line would take far longer.
 func (c *call) rows(first, last int) iter.Seq[row] {
+	start := c.line(first).From
+	atoms := c.text.Atoms(start, c.line(last).Next)
 	return func(yield func(row) bool) {
-		from := c.line(first).From
-		atoms := c.text.Atoms(from, c.line(last).Next)
-		for len(atoms) > 0 {
-			r := row{from: from, content: content(atoms)}
+		for at := 0; at < len(atoms); {
+			r := row{from: start + at, content: content(atoms[at:])}
 			if !yield(r) {
 				return
 			}
-			size := len(r.content) + breakAt(atoms[len(r.content):])
-			from, atoms = from+size, atoms[size:]
+			at += len(r.content)
+			at += breakAt(atoms[at:])
 		}
 	}
 }

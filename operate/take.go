@@ -50,7 +50,7 @@ func (d *Desk) Change(reg int, s api.Span) api.Errno {
 		c.checkSpan(s)
 		gone := s
 		if s.Kind == api.ByLines {
-			top, bottom := c.linesEnds(s)
+			top, bottom := c.outerLines(s)
 			gone.From, gone.To = top.From, bottom.To
 		}
 		if s.Kind == api.ByLines || s.From < s.To {
