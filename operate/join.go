@@ -2,6 +2,7 @@ package operate
 
 import (
 	"copyist/api"
+	"copyist/breaks"
 	"copyist/cluster"
 	"copyist/glyph"
 	"copyist/lines"
@@ -36,15 +37,15 @@ func lastPlace(edits []api.Edit) int {
 func (c *call) seams(first, last int, bare bool) []api.Edit {
 	var edits []api.Edit
 	begun := false
-	var upper row
+	var upper breaks.Row
 	clings := false // what is joined so far has atoms, and the last is no blank
 	for lower := range c.rows(first, last) {
-		rest := lower.content
+		rest := lower.Content
 		if begun {
-			seam := api.Edit{From: upper.to(), To: lower.from}
+			seam := api.Edit{From: upper.To(), To: lower.From}
 			if !bare {
 				rest = rest[lead(rest):]
-				seam.To = lower.to() - len(rest)
+				seam.To = lower.To() - len(rest)
 				seam.Put = gap(clings, rest)
 			}
 			edits = append(edits, seam)

@@ -4,6 +4,7 @@ import (
 	"slices"
 
 	"copyist/api"
+	"copyist/breaks"
 	"copyist/cells"
 	"copyist/lines"
 )
@@ -38,7 +39,7 @@ func (c *call) putChars(text []int, up bool) {
 		at = c.behind(here)
 	}
 	c.change(here, api.Edit{From: at, To: at, Put: text})
-	if !slices.ContainsFunc(text, isBreak) {
+	if !slices.ContainsFunc(text, breaks.Is) {
 		at += len(text) - 1
 	}
 	c.end(c.clamped(at))
@@ -61,7 +62,7 @@ func (c *call) putLines(text []int, up bool) {
 	case up:
 		at = line.From
 	case line.Break == api.NoBreak:
-		text = withoutBreak(text)
+		text = breaks.Without(text)
 		end = c.lineEnd(c.text.Atoms(at-1, at), text)
 	}
 	c.change(here, api.Edit{From: at, To: at, Put: slices.Concat(end, text)})

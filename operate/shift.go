@@ -29,10 +29,10 @@ func (c *call) toRight(first, last, steps int) []api.Edit {
 	tabs := slices.Repeat([]int{tab}, steps)
 	var edits []api.Edit
 	for r := range c.rows(first, last) {
-		if len(r.content) == 0 {
+		if len(r.Content) == 0 {
 			continue
 		}
-		edits = append(edits, api.Edit{From: r.from, To: r.from, Put: tabs})
+		edits = append(edits, api.Edit{From: r.From, To: r.From, Put: tabs})
 		if len(edits)*steps > api.MaxBytes {
 			break
 		}
@@ -43,8 +43,8 @@ func (c *call) toRight(first, last, steps int) []api.Edit {
 func (c *call) toLeft(first, last, steps int) []api.Edit {
 	var edits []api.Edit
 	for r := range c.rows(first, last) {
-		if size := indent(r.content, steps); size > 0 {
-			edits = append(edits, api.Edit{From: r.from, To: r.from + size})
+		if size := indent(r.Content, steps); size > 0 {
+			edits = append(edits, api.Edit{From: r.From, To: r.From + size})
 		}
 	}
 	return edits

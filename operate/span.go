@@ -5,6 +5,7 @@ import (
 	"slices"
 
 	"copyist/api"
+	"copyist/breaks"
 	"copyist/lines"
 )
 
@@ -57,34 +58,7 @@ func (c *call) taken(s api.Span) api.Reg {
 	return api.Reg{Kind: api.ByLines, Text: text}
 }
 
-// row is a line of the text with the atoms of its content.
-type row struct {
-	from    int
-	content []int
-}
-
-func (r row) to() int { return r.from + len(r.content) }
-
-// rows goes through lines by their numbers. Their atoms are read at once: to ask the text for each line would take far longer.
-func (c *call) rows(first, last int) iter.Seq[row] {
-	start := c.line(first).From
-	atoms := c.text.Atoms(start, c.line(last).Next)
-	return func(yield func(row) bool) {
-		for at := 0; at < len(atoms); {
-			r := row{from: start + at, content: content(atoms[at:])}
-			if !yield(r) {
-				return
-			}
-			at += len(r.content)
-			at += breakAt(atoms[at:])
-		}
-	}
-}
-
-// content is what stands ahead of the first break.
-func content(atoms []int) []int {
-	if to := slices.IndexFunc(atoms, isBreak); to >= 0 {
-		return atoms[:to]
-	}
-	return atoms
+// rows goes through lines by their numbers.
+func (c *call) rows(first, last int) iter.Seq[breaks.Row] {
+	return breaks.Rows(c.text, c.line(first).From, c.line(last).Next)
 }

@@ -6,7 +6,7 @@ import (
 )
 
 // near bounds the atoms between two edits that are done in one go. What lies between edits further apart is left alone, so that states of the text share it.
-const near = 4 * maxPiece
+const near = 16 * maxPiece
 
 // Change does all edits, or none.
 func (t *Text) Change(edits []api.Edit) api.Errno {

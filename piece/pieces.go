@@ -3,7 +3,7 @@ package piece
 import "copyist/codec"
 
 // maxPiece bounds the bytes of a piece: an atom in it is found by reading from its beginning on.
-const maxPiece = 256
+const maxPiece = 64
 
 // added stands for the place of bytes that were not loaded.
 const added = -1

@@ -61,18 +61,19 @@ func (b *Bank) write(name int, r api.Reg) api.Errno {
 }
 
 // written is what the register would hold with r in it, in memory of its own.
-func (b *Bank) written(name int, r api.Reg) (api.Reg, api.Errno) {
+func (b *Bank) written(name int, r api.Reg) (holding, api.Errno) {
 	if len(r.Text) > api.MaxReg { // ahead of copying: it may be far longer
-		return api.Reg{}, api.ErrLong
+		return holding{}, api.ErrLong
 	}
 	w := closed(r)
+	h := holding{kind: w.Kind}.with(w.Text)
 	if own, ok := b.held[small(name)]; ok && isGreat(name) {
-		w = appended(own, w)
+		h = appended(own, w)
 	}
-	if len(w.Text) > api.MaxReg {
-		return api.Reg{}, api.ErrLong
+	if h.size > api.MaxReg {
+		return holding{}, api.ErrLong
 	}
-	return w, api.OK
+	return h, api.OK
 }
 
 // closed is a copy of r, in which, by lines, the last line has its break too.
@@ -85,14 +86,15 @@ func closed(r api.Reg) api.Reg {
 }
 
 // appended is own with w behind it. Where lines meet characters, these become lines, by a break such as the lines have.
-func appended(own, w api.Reg) api.Reg {
+func appended(own holding, w api.Reg) holding {
 	switch {
-	case own.Kind == w.Kind:
-		return api.Reg{Kind: w.Kind, Text: slices.Concat(own.Text, w.Text)}
+	case own.kind == w.Kind:
+		return own.with(w.Text)
 	case w.Kind == api.ByLines:
-		return api.Reg{Kind: api.ByLines, Text: slices.Concat(own.Text, lastBreak(w.Text), w.Text)}
+		own.kind = api.ByLines
+		return own.with(lastBreak(w.Text)).with(w.Text)
 	}
-	return api.Reg{Kind: api.ByLines, Text: slices.Concat(own.Text, w.Text, lastBreak(own.Text))}
+	return own.with(w.Text).with(lastBreak(own.last.atoms(min(own.size, 2))))
 }
 
 // lastBreak is the break at the end of a text by lines.
