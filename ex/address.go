@@ -2,7 +2,7 @@ package ex
 
 import "copyist/api"
 
-// addresses reads none, one or two.
+// addresses reads none, one or two, and the blanks behind them.
 func (r *reader) addresses() []api.Addr {
 	if r.skip('%') {
 		r.noComma()

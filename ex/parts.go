@@ -73,12 +73,10 @@ type count struct{}
 func (count) read(r *reader, x *api.Ex) {
 	r.blanks()
 	from := r.at
-	n, ok := r.number()
-	if ok && n == 0 {
-		r.at = from
-		r.refuse()
+	x.Count, _ = r.number()
+	if x.Count == 0 {
+		r.at = from // a 0 is no count: it is refused where it stands
 	}
-	x.Count = n
 }
 
 func (count) tell(p *printer, x api.Ex) {

@@ -85,7 +85,6 @@ func (r *reader) number() (int, bool) {
 func (r *reader) line() api.Ex {
 	r.blanks()
 	x := api.Ex{Addrs: r.addresses()}
-	r.blanks()
 	c := r.command()
 	if len(x.Addrs) > 0 && !takesLines(c) {
 		panic(refusal{r.named, api.ErrAddress})

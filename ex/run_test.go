@@ -126,8 +126,13 @@ func TestFull(t *testing.T) {
 		run(t, d, "pu a", api.ErrFit)
 		run(t, d, "g/^/pu a", api.ErrFit)
 	}
+	// as much as a text may have, and a little more
+	d := deskIn(t, api.UTF8, spell(strings.Repeat("a", 257)), 0, 65536)
+	run(t, d, "s/a/"+strings.Repeat("x", 256)+"/g", api.ErrFull)
+	run(t, d, "s/a//", api.OK)
+	run(t, d, "s/a/"+strings.Repeat("x", 256)+"/g", api.OK)
 	// far more than any text may have: what does not fit is still told first, wherever it stands
-	d := deskIn(t, api.Latin1, spell(strings.Repeat("a", 3000)+"\u00ff"), 0, 65536)
+	d = deskIn(t, api.Latin1, spell(strings.Repeat("a", 3000)+"\u00ff"), 0, 65536)
 	run(t, d, "s/./"+strings.Repeat("&", 255)+"/g", api.ErrFull)
 	run(t, d, "s/./\\U"+strings.Repeat("&", 250)+"/g", api.ErrFit)
 	run(t, d, "s/.*/"+strings.Repeat("&", 200)+"/g", api.ErrLong)

@@ -103,4 +103,11 @@ func TestIgnoreCase(t *testing.T) {
 			t.Errorf("%q, %v: %d; want %d", c.line, c.set, err, c.err)
 		}
 	}
+	for line, want := range map[string]string{"g/b/s/b/x/ig": "axx\naB\n", "g/b/s//x/ig": "axx\naB\n", "g/b/s/b/x/g": "axB\naB\n", "/b/s/b/x/ig": "axx\naB\n", "g/a/s/b/x/ig": "axx\nax\n"} { // one pattern, read in both ways
+		d := desk(t, "abB\naB\n", 3)
+		run(t, d, line, api.OK)
+		if got := show(look(d).Atoms); got != want {
+			t.Errorf("%q: %q; want %q", line, got, want)
+		}
+	}
 }
