@@ -113,7 +113,10 @@ func cut(t *piece.Text, at int) int {
 func parted(pair []int) bool {
 	switch glyph.Class(pair[0]) {
 	case glyph.Extend, glyph.Joiner:
-		return false // what stands ahead of these alone may join what stands behind them
+		// What stands ahead of these alone may join such as these to them, and nothing else.
+		if glyph.Conjunct(pair[1]) == glyph.Consonant || glyph.Class(pair[1]) == glyph.Pictograph {
+			return false
+		}
 	}
 	return cluster.IsBreak(pair, 1)
 }

@@ -209,7 +209,7 @@ func TestRandomKeys(t *testing.T) {
 	random := picker{rand.New(rand.NewSource(1803))}
 	odd := []int{-1, -7, -256, -257, -1 << 62, 1 << 62, 0xD7FF, 0xD800, 0xDFFF, 0xE000, 0x10FFFF, 0x110000, 0, 10, 127, 128, 0x301}
 	for range 600 {
-		x := usual.high(1 + random.Intn(4)).load(t, []byte(random.pick("", "a", "ab\ncd\n", "a\r\n\r\nb", "foo (bar)\n\n x\n", "e\u0301e\u0301\n")))
+		x := usual.high(1+random.Intn(4)).load(t, []byte(random.pick("", "a", "ab\ncd\n", "a\r\n\r\nb", "foo (bar)\n\n x\n", "e\u0301e\u0301\n")))
 		random.registers(x)
 		for range 60 {
 			k := random.Intn(128)
