@@ -331,3 +331,8 @@ func (x *pair) goal(key string, at int) *pair {
 	x.does(key).at(at)
 	return x.both(func(d *operate.Desk) { d.At = was })
 }
+
+// setNative sets the break that is typed.
+func setNative(native int) func(d *operate.Desk) {
+	return func(d *operate.Desk) { d.Set.Native = native }
+}
