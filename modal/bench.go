@@ -17,9 +17,6 @@ func (b bench) text() *piece.Text { return b.Book.Text() }
 
 func (b bench) clamped(at int) int { return motion.Clamp(b.text(), at, false) }
 
-// column is that of the cursor.
-func (b bench) column() int { return motion.Column(b.text(), b.At) }
-
 // number is that of the cursor's line; the tail has one too.
 func (b bench) number() int { return lines.Of(b.text(), b.At) }
 

@@ -23,7 +23,7 @@ func (m *Machine) Bring(line int, text []int) api.Errno {
 	edit, place := m.wholeLines(line, text)
 	err := m.put([]api.Edit{edit}, func() int { return m.firstSign(place) })
 	if err == api.OK {
-		m.goal = m.column()
+		m.aimHere()
 		m.follow()
 	}
 	return err

@@ -140,7 +140,7 @@ func (m *Machine) do(c api.Cmd) api.Errno {
 	}
 	err := d.do(c)
 	if err == api.OK && d.lands {
-		m.goal = m.column()
+		m.aimHere()
 	}
 	return err
 }

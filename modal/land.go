@@ -13,9 +13,10 @@ func (m *Machine) move(c api.Cmd) api.Errno {
 	}
 	from := m.At
 	m.At = m.clamped(land.At)
-	m.goal = land.Goal
 	if isFar(c.Move) {
-		m.goal = m.column()
+		m.aimHere()
+	} else {
+		m.goal = goal{column: land.Goal, counted: true}
 	}
 	if isJump(c.Move) {
 		m.Book.SetMark(jumpMark, from)
@@ -94,7 +95,7 @@ func (m *Machine) near(move api.Move) (api.Land, api.Errno) {
 	case kind <= api.MTillBack:
 		return motion.Chars(m.text(), m.At, move, false)
 	case kind <= api.MPercent:
-		return motion.Rows(m.text(), m.At, m.goal, move)
+		return motion.Rows(m.text(), m.At, m.goalColumn(), move)
 	case kind <= api.MBigRest:
 		return motion.Words(m.text(), m.At, move, false)
 	}

@@ -56,7 +56,7 @@ func TestSearchErrors(t *testing.T) {
 	x := load(t, "a b a b").does("$?b⏎").at(2)
 	x.does("/[").refusesInLine(13, api.ErrPattern).mode(api.Normal).at(2).holds('/', api.ByChars, "b").does("n").at(6)
 	x.does("d/\\(").refusesInLine(13, api.ErrPattern).does("n").at(2)
-	x.does("/" + strings.Repeat("x", 257)).refusesInLine(13, api.ErrLong).does("/\\%(\\%(a\\{99}\\)\\{99}\\)").refusesInLine(13, api.ErrBig).does("v/*").refusesInLine(13, api.ErrPattern).mode(api.Visual).does("␛n").at(6)
+	x.does("/"+strings.Repeat("x", 257)).refusesInLine(13, api.ErrLong).does("/\\%(\\%(a\\{99}\\)\\{99}\\)").refusesInLine(13, api.ErrBig).does("v/*").refusesInLine(13, api.ErrPattern).mode(api.Visual).does("␛n").at(6)
 	x.answers("/zz⏎", api.ErrMatch).mode(api.Normal).at(6).holds('/', api.ByChars, "zz").refuses('n', api.ErrMatch)
 	x.does("v").answers("?q⏎", api.ErrMatch).seen(api.Sight{Mode: api.Visual, Anchor: 6, At: 6, Percent: 100, Cell: 6}).does("␛")
 	x.answers("c/zz⏎", api.ErrMatch).mode(api.Normal).sees("a b a b", 6)
@@ -122,7 +122,7 @@ func TestLineKeys(t *testing.T) {
 			}
 		}
 		// as long as a line may be, and one more
-		x = load(t, "ab").does(begin + strings.Repeat("x", api.MaxLine)).refuses('y', api.ErrLong).does("␖").refuses('y', api.ErrLong)
+		x = load(t, "ab").does(begin+strings.Repeat("x", api.MaxLine)).refuses('y', api.ErrLong).does("␖").refuses('y', api.ErrLong)
 		if n := len(x.m.See().Line); n != api.MaxLine {
 			t.Fatalf("%d", n)
 		}

@@ -193,7 +193,7 @@ func TestJumps(t *testing.T) {
 				d.Book.SetMark(39, 15)
 				d.At = 2
 			})
-			x.does(mode + keys).marked(39, 2).does("``").at(2)
+			x.does(mode+keys).marked(39, 2).does("``").at(2)
 		}
 	}
 	for _, keys := range []string{"l", "h", "0", "^", "$", "3|", "fb", "Fa", "tb", "j", "+", "_", "w", "b", "e", "W", "E", "B", "fb;", "d}", "dG", "y`m", "d/b⏎", "yn", "yL", "y*", "x", "p", "ix␛", "o␛", "␅", "zt", "ma", "v␛", ":3⏎", "u"} {

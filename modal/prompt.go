@@ -158,7 +158,7 @@ func (m *Machine) run(line []int) api.Errno {
 		m.back = false
 	}
 	m.asked = wish
-	m.goal = m.column()
+	m.aimHere()
 	return api.OK
 }
 

@@ -19,7 +19,9 @@ func (m *Machine) seen() (high, low int) {
 }
 
 // goToLine goes to a line, at the goal column.
-func (m *Machine) goToLine(number int) { m.At = motion.Place(m.text(), number, m.goal, false) }
+func (m *Machine) goToLine(number int) {
+	m.At = motion.Place(m.text(), number, m.goalColumn(), false)
+}
 
 // scrolled tells the window's first line behind a step of so many lines from a first line.
 func (m *Machine) scrolled(top, by int) int {

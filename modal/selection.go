@@ -90,7 +90,7 @@ func (m *Machine) moveEnd(c api.Cmd) api.Errno {
 		m.mode = api.VisualLine
 	}
 	m.anchor, m.At = m.clamped(s.From), m.clamped(end)
-	m.goal = m.column()
+	m.aimHere()
 	return api.OK
 }
 

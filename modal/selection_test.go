@@ -39,7 +39,7 @@ func TestSelectionCommandsFail(t *testing.T) {
 		{"\"!d", api.ErrReg}, {"\":x", api.ErrRead}, {"\"!y", api.ErrReg}, {"\"!c", api.ErrReg}, {"\".s", api.ErrRead}, {"r\x01", api.ErrKey}, {"r⏎", api.ErrKey}, {"r␊", api.ErrKey}, {"r\x7f", api.ErrKey}, {"p", api.ErrEmpty}, {"\"!P", api.ErrReg}, {"\"_p", api.ErrEmpty}, {"9>", api.ErrFull}, {"ré", api.ErrFull},
 	} {
 		for _, sel := range []string{"v", "V"} {
-			x := usual.limited(9).load(t, []byte("abcd\nefg")).does("lll" + sel + "hh").answers(c.keys, c.err)
+			x := usual.limited(9).load(t, []byte("abcd\nefg")).does("lll"+sel+"hh").answers(c.keys, c.err)
 			x.mode(api.Normal).sees("abcd\nefg", 1).marked('<', 1).marked('>', 3).refuses('u', api.ErrOldest).does("gv").seen(api.Sight{Mode: map[string]int{"v": api.Visual, "V": api.VisualLine}[sel], Anchor: 3, At: 1, Percent: 50, Cell: 1})
 			x.does("␛").refuses('.', api.ErrNothing)
 		}
@@ -51,7 +51,7 @@ func TestSelectionCommandsFail(t *testing.T) {
 	load(t, "a\n\nb").does("jvcx␛").sees("a\nx\nb", 2)
 	load(t, "").does("V").answers("d", api.ErrNothing).does("v").answers("y", api.ErrNothing).does("Vy").holds('0', api.ByLines, "\n").does("V").answers("rx", api.ErrNothing).does("V").answers("J", api.ErrNothing)
 	for _, sel := range []string{"v", "V"} {
-		load(t, "ab\ncd").does("jl" + sel).answers("J", api.ErrNothing).mode(api.Normal).at(4).does(sel+"h").answers("gJ", api.ErrNothing).at(3)
+		load(t, "ab\ncd").does("jl"+sel).answers("J", api.ErrNothing).mode(api.Normal).at(4).does(sel+"h").answers("gJ", api.ErrNothing).at(3)
 	}
 	// what is not spelled there leaves the selection
 	load(t, "ab").does("vl").refuses('D', api.ErrKey).refuses('.', api.ErrKey).refuses('i'+1000, api.ErrKey).mode(api.Visual).fails("ix", api.ErrKey).mode(api.Visual)
@@ -66,13 +66,13 @@ func TestReselect(t *testing.T) {
 	// the marks may have been set otherwise since
 	x.does("ggm>Gm<gv").seen(api.Sight{Mode: api.VisualLine, Anchor: 0, At: 8, Percent: 100}).does("␛").marked('<', 0).marked('>', 8)
 	// and go with the text; clamped
-	x = load(t, "abc\ndef\n").does("jvll␛ggdd").sees("def\n", 0).does("gv").seen(api.Sight{Mode: api.Visual, Anchor: 0, At: 2, Percent: 100, Cell: 2})
-	x = load(t, "abc\ndef\n").does("jlvl␛dd").sees("abc\n", 0).does("gv").seen(api.Sight{Mode: api.Visual, Anchor: 0, At: 0, Percent: 100}).does("␛")
+	load(t, "abc\ndef\n").does("jvll␛ggdd").sees("def\n", 0).does("gv").seen(api.Sight{Mode: api.Visual, Anchor: 0, At: 2, Percent: 100, Cell: 2, Dirty: true})
+	x = load(t, "abc\ndef\n").does("jlvl␛dd").sees("abc\n", 0).does("gv").seen(api.Sight{Mode: api.Visual, Anchor: 2, At: 2, Percent: 100, Cell: 2, Dirty: true}).does("␛")
 	x.both(func(d *operate.Desk) {
 		d.Book.SetMark('<', 1)
 		d.Book.SetMark('>', 4)
 	})
-	x.does("gv").seen(api.Sight{Mode: api.Visual, Anchor: 1, At: 2, Percent: 100, Cell: 2})
+	x.does("gv").seen(api.Sight{Mode: api.Visual, Anchor: 1, At: 2, Percent: 100, Cell: 2, Dirty: true})
 	// behind a command, behind VCommand
 	load(t, "abcd").does("lvld").sees("ad", 1).does("ugv").seen(api.Sight{Mode: api.Visual, Anchor: 3, At: 3, Percent: 100, Cell: 3})
 	load(t, "abcd").does("lvl:␛gv").seen(api.Sight{Mode: api.Visual, Anchor: 1, At: 2, Percent: 100, Cell: 2})

@@ -125,7 +125,7 @@ func (m *Machine) endTyping() {
 	m.At = m.clamped(m.boundaryAhead(m.here()))
 	m.Book.End(m.At)
 	m.mode, m.literal = api.Normal, false
-	m.goal = m.column()
+	m.aimHere()
 	if m.typing.kept {
 		m.last = m.typing.change
 	}

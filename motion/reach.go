@@ -59,15 +59,20 @@ func Reach(t *piece.Text, at int, m api.Move) (api.Span, api.Errno) {
 func travel(t *piece.Text, at int, m api.Move) (api.Land, api.Errno) {
 	switch {
 	case charWays().has(m.Kind):
-		return Chars(t, at, m, true)
+		return charWays()[m.Kind](blindly(newStand(t, at, m, true)))
 	case rowWays().has(m.Kind):
-		return Rows(t, at, Column(t, at), m)
+		return rowWays()[m.Kind](blindly(newStand(t, at, m, false))) // of the line that it leads to all is taken, whatever the column
 	case wordWays().has(m.Kind):
-		return Words(t, at, m, true)
+		return wordWays()[m.Kind](blindly(newWordStand(t, at, m, true)))
 	case paraWays().has(m.Kind):
-		return Paras(t, at, m)
+		return paraWays()[m.Kind](blindly(newStand(t, at, m, false)))
 	}
 	return api.Land{}, api.ErrArg
+}
+
+func blindly(s stand) stand {
+	s.blind = true
+	return s
 }
 
 // wordReach tells the span of a motion to a word's beginning. The last word that is taken does not take its line's break with it.

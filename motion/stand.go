@@ -17,6 +17,7 @@ type stand struct {
 	count  int // 0: there is none
 	arg    int
 	goal   int
+	blind  bool // nobody asks for the landing's goal
 }
 
 func newStand(t *piece.Text, at int, m api.Move, past bool) stand {
@@ -49,7 +50,11 @@ func (s stand) exclusive(at int) (api.Land, api.Errno) { return s.land(at, api.E
 func (s stand) inclusive(at int) (api.Land, api.Errno) { return s.land(at, api.Inclusive) }
 
 func (s stand) land(at, kind int) (api.Land, api.Errno) {
-	return api.Land{At: at, Kind: kind, Goal: Column(s.text, at)}, api.OK
+	land := api.Land{At: at, Kind: kind}
+	if !s.blind { // it takes the longer the further the landing is in its line
+		land.Goal = Column(s.text, at)
+	}
+	return land, api.OK
 }
 
 func nowhere() (api.Land, api.Errno) { return api.Land{}, api.ErrMove }

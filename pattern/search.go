@@ -33,9 +33,9 @@ func (p *Pattern) Search(t *piece.Text, at int, back bool, wrap bool) (api.Span,
 // search tells the match at the least, or back the greatest, place among some offsets.
 func (p *Pattern) search(t *piece.Text, among span, back bool) (api.Span, bool) {
 	k := p.seeker(nil)
-	for begin, content := range contents(t, among, back) {
-		k.turnTo(content)
-		low, high := max(among.from-begin, 0), min(among.to-begin, len(content))
+	for begin, l := range contents(t, among, back) {
+		k.turnTo(l)
+		low, high := max(among.from-begin, 0), min(among.to-begin, l.size)
 		for i := range high - low + 1 {
 			at := low + i
 			if back {
@@ -49,16 +49,23 @@ func (p *Pattern) search(t *piece.Text, among span, back bool) (api.Span, bool) 
 	return api.Span{}, false
 }
 
-// contents goes through the lines that some offsets are in, upwards or back: where each begins, and its atoms.
-func contents(t *piece.Text, among span, back bool) iter.Seq2[int, []int] {
-	return func(yield func(int, []int) bool) {
-		for begin, atoms := range sheets(t, among, back) {
+// contents goes through the lines that some offsets are in, upwards or back: where each begins, and what it holds.
+func contents(t *piece.Text, among span, back bool) iter.Seq2[int, line] {
+	return func(yield func(int, line) bool) {
+		for s := range sheets(t, among, back) {
+			if isLong(s) {
+				if !yield(s.From, lineIn(t, s, nearest(s, among, back))) {
+					return
+				}
+				continue
+			}
+			atoms := t.Atoms(s.From, s.Next)
 			all := split(atoms)
 			if back {
 				slices.Reverse(all)
 			}
-			for _, line := range all {
-				if !yield(begin+line.from, atoms[line.from:line.to]) {
+			for _, l := range all {
+				if !yield(s.From+l.from, whole(atoms[l.from:l.to])) {
 					return
 				}
 			}
@@ -66,26 +73,64 @@ func contents(t *piece.Text, among span, back bool) iter.Seq2[int, []int] {
 	}
 }
 
-// sheets goes through the same lines, many at a time.
-func sheets(t *piece.Text, among span, back bool) iter.Seq2[int, []int] {
-	return func(yield func(int, []int) bool) {
+// nearest tells the offset of a line at which a search in it begins.
+func nearest(l api.Line, among span, back bool) int {
+	if back {
+		return min(among.to, l.To) - l.From
+	}
+	return max(among.from, l.From) - l.From
+}
+
+// isLong tells whether a line is so long that it is not read at once.
+func isLong(l api.Line) bool { return l.To-l.From > 4*window }
+
+// sheets goes through the same lines, many at a time, as one line from the beginning of the first to the end of the last; but a long one stands alone.
+func sheets(t *piece.Text, among span, back bool) iter.Seq[api.Line] {
+	return func(yield func(api.Line) bool) {
 		for low, high := among.from, among.to; low <= high; {
-			from, next := lineOf(t, low).From, lineOf(t, low+window).Next
+			s := sheetUp(t, low)
 			if back {
-				from, next = lineOf(t, high-window).From, lineOf(t, high).Next
+				s = sheetDown(t, high)
 			}
-			isTail := from == next && next > 0
-			if isTail || !yield(from, t.Atoms(from, next)) || !back && next == t.Len() {
+			isTail := s.From == s.Next && s.Next > 0 // nothing is sought there
+			if !isTail && !yield(s) || !back && s.Next == t.Len() {
 				return
 			}
 			if back {
-				high = from - 1
+				high = s.From - 1
 			} else {
-				low = next
+				low = s.Next
 			}
 		}
 	}
 }
+
+// sheetUp is the lines from the one of an offset on.
+func sheetUp(t *piece.Text, at int) api.Line {
+	first, last := lineOf(t, at), lineOf(t, at+window)
+	switch {
+	case isLong(first) || first == last:
+		return first
+	case isLong(last):
+		return sheet(first.From, last.From)
+	}
+	return sheet(first.From, last.Next)
+}
+
+// sheetDown is the lines up to the one of an offset.
+func sheetDown(t *piece.Text, at int) api.Line {
+	first, last := lineOf(t, at-window), lineOf(t, at)
+	switch {
+	case isLong(last) || first == last:
+		return last
+	case isLong(first):
+		return sheet(first.Next, last.Next)
+	}
+	return sheet(first.From, last.Next)
+}
+
+// sheet is several lines, none of them long; what its content would be is not asked.
+func sheet(from, next int) api.Line { return api.Line{From: from, To: from, Next: next} }
 
 // lineOf tells the line that an offset is in, the tail too.
 func lineOf(t *piece.Text, at int) api.Line {

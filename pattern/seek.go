@@ -5,11 +5,11 @@ import "copyist/glyph"
 // seeker seeks a pattern's ways in a line, the best first. A way that has failed from some step at some offset is not gone again, wherever it began.
 type seeker struct {
 	*program
-	line  []int
+	line
 	gone  []uint64 // by offset and meeting point: ways that have been there
-	faces []face
-	left  []spot // where other ways go on, the best last
-	marks []note // of the way that is gone
+	faces []face   // of the atoms at hand, if any has been asked for
+	left  []spot   // where other ways go on, the best last
+	marks []note   // of the way that is gone
 }
 
 // spot is where a way is.
@@ -30,16 +30,16 @@ type face struct {
 	kinds        kind // whatever the case, if that is asked for
 }
 
-func (p *program) seeker(line []int) *seeker {
+func (p *program) seeker(atoms []int) *seeker {
 	k := &seeker{program: p}
-	k.turnTo(line)
+	k.turnTo(whole(atoms))
 	return k
 }
 
 // turnTo goes on to another line.
-func (k *seeker) turnTo(line []int) {
-	k.line = line
-	k.gone = cleared(k.gone, ((len(line)+1)*k.meets+63)/64)
+func (k *seeker) turnTo(l line) {
+	k.line = l
+	k.gone = cleared(k.gone, ((l.size+1)*k.meets+63)/64)
 	k.faces = k.faces[:0]
 }
 
@@ -55,7 +55,7 @@ func cleared(list []uint64, size int) []uint64 {
 
 // next tells the first match that begins at an offset or behind it.
 func (k *seeker) next(at int) ([20]int, bool) {
-	for ; at <= len(k.line); at++ {
+	for ; at <= k.size; at++ {
 		if end, ok := k.from(at); ok {
 			return k.match(at, end), true
 		}
@@ -93,7 +93,7 @@ ways:
 			case fork:
 				k.left = append(k.left, spot{s.other, now.at, now.moved, len(k.marks)})
 			case take:
-				if now.at == len(k.line) || !k.takes(s.set, now.at) {
+				if now.at == k.size || !k.takes(s.set, now.at) {
 					continue ways
 				}
 				now.at, now.moved = now.at+1, s.depth
@@ -141,7 +141,7 @@ func (k *seeker) forget(at int) {
 
 // takes tells whether a single takes the atom at an offset.
 func (k *seeker) takes(s *set, at int) bool {
-	if s.has(k.line[at]) {
+	if s.has(k.atom(at)) {
 		return !s.not
 	}
 	if s.kinds == 0 && !k.ignore {
@@ -158,7 +158,7 @@ func (k *seeker) holds(e edge, at int) bool {
 	case lineBegin:
 		return at == 0
 	case lineEnd:
-		return at == len(k.line)
+		return at == k.size
 	case wordBegin:
 		return k.isWord(at) && !k.isWord(at-1)
 	}
@@ -166,19 +166,32 @@ func (k *seeker) holds(e edge, at int) bool {
 }
 
 func (k *seeker) isWord(at int) bool {
-	return 0 <= at && at < len(k.line) && k.face(at).plain&word != 0
+	return 0 <= at && at < k.size && k.face(at).plain&word != 0
 }
 
 // face looks at an atom once, however many steps ask for it.
 func (k *seeker) face(at int) *face {
-	if len(k.faces) == 0 {
-		k.faces = append(k.faces, make([]face, len(k.line))...)
+	atom := k.atom(at)
+	if more := len(k.atoms) - len(k.faces); more > 0 {
+		k.faces = append(k.faces, make([]face, more)...)
 	}
-	f := &k.faces[at]
+	f := &k.faces[at-k.low]
 	if !f.known {
-		*f = k.faceOf(k.line[at])
+		*f = k.faceOf(atom)
 	}
 	return f
+}
+
+// atom tells the atom at an offset of the line.
+func (k *seeker) atom(at int) int {
+	if at < k.low {
+		// The faces that are known stand with their atoms no more.
+		k.faces = k.faces[:0]
+		k.readDown(at)
+	} else if at >= k.low+len(k.atoms) {
+		k.readUp(at)
+	}
+	return k.atoms[at-k.low]
 }
 
 func (k *seeker) faceOf(atom int) face {
