@@ -52,13 +52,10 @@ func (b bench) behind(count int) int {
 
 // boundaryAhead tells the greatest boundary of the line's content below the cursor; at the line's beginning the cursor itself.
 func (b bench) boundaryAhead(line api.Line) int {
-	switch {
-	case b.At <= line.From:
+	if b.At <= line.From {
 		return b.At
-	case b.At > line.To: // inside of a CRLF
-		return line.To
 	}
-	return cells.Of(b.text(), b.At-1).At
+	return cells.Of(b.text(), b.At-1).At // inside of a CRLF: where that begins
 }
 
 func (b bench) nativeBreak() []int { return breaks.Of(breaks.Native(b.Set.Native)) }

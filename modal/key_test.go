@@ -139,17 +139,13 @@ func TestGoalBehindMotions(t *testing.T) {
 		keys string
 		col  int
 	}{
-		{"l", 1}, {"3l", 3}, {"5|", 4}, {"f7", 7}, {"t7", 6}, {"f7h", 6}, {"f70t9;", 8}, {"$F70$,"[:3], 7}, {"$", 9}, {"$0", 0}, {"3l^", 0}, {"w", 0}, {"e", 9}, {"3l_", 0}, {"3lG", 0}, {"3lgg", 0}, {"3l50%", 0},
+		{"l", 1}, {"3l", 3}, {"5|", 4}, {"f7", 7}, {"t7", 6}, {"f7h", 6}, {"f70t9;", 8}, {"$F7", 7}, {"$F50,", 5}, {"$", 9}, {"$0", 0}, {"3l^", 0}, {"w", 0}, {"e", 9}, {"3l_", 0}, {"3lG", 0}, {"3lgg", 0}, {"3l50%", 0},
 		{"5|*", 0}, {"5|/3⏎", 3}, {"5|?3⏎", 3}, {"5|ma0`a", 4}, {"5|ma'a", 0}, {"5|H", 0}, {"5|M", 0}, {"5|L", 0}, {"/3⏎nnn", 3}, {"/3⏎N", 3},
 		{"4|dh", 2}, {"4|x", 3}, {"4|yl", 3}, {"4|y0", 0}, {"4|gUl", 3}, {"4|>>", 1}, {"4|<<", 0}, {"4|rx", 3}, {"4|3rx", 5}, {"4|ylp", 4}, {"4|ylP", 3}, {"4|J", 10}, {"4|gJ", 10}, {"4|~", 4}, {"4|3~", 6}, {"4|x0u", 3}, {"4|x0u␒", 3},
-		{"5|iab␛", 5}, {"5|Axyz␛", 12}, {"5|R␛", 3}, {"5|cwx␛", 4}, {"5|o␛", 0}, {"5|.", -1},
-		{"4|:s/3/x/⏎", 0}, {"4|:k a⏎", 3}, {"4|:set ic⏎", 3}, {"4|:2⏎", 0}, {":s/3/x/⏎4|&", -1},
+		{"5|iab␛", 5}, {"5|Axyz␛", 12}, {"5|R␛", 3}, {"5|cwx␛", 4}, {"5|o␛", 0},
+		{"4|:s/3/x/⏎", 0}, {"4|:k a⏎", 3}, {"4|:set ic⏎", 3}, {"4|:2⏎", 0},
 		{"4|vll", 5}, {"4|vllo", 3}, {"4|vllo␛", 3}, {"4|vll␛gv", 5}, {"4|vllo␛$gv", 3}, {"4|vlld", 3}, {"4|vlly", 3}, {"4|vllU", 3}, {"4|vllrx", 3}, {"4|vll>", 1}, {"4|vJ", 10}, {"4|ylvp", 3}, {"4|viw", 9}, {"4|viwo", 0}, {"4|V", 3}, {"4|Vy", 3},
 	} {
-		if c.col < 0 {
-			load(t, ladder).keys(c.keys)
-			continue
-		}
 		x := load(t, ladder).does(c.keys)
 		s := x.m.See()
 		line := strings.Count(show(s.Text)[:s.At], "\n")
@@ -171,6 +167,24 @@ func TestGoalBehindMotions(t *testing.T) {
 	load(t, "abc\na\nabcdef\n").does("$j").at(4).does("j").at(11).does("k").at(4).does("k").at(2)
 	// a goal outlives a short line
 	load(t, "abc\n\nabc\n").does("$hj").at(4).does("j").at(6)
+}
+
+// TestGoalIsTheColumn, P1804: where the goal was the end of the line, each of these makes it the cursor's column; and these don't.
+func TestGoalIsTheColumn(t *testing.T) {
+	for _, c := range []struct {
+		keys string
+		at   int // behind a j
+	}{
+		{"yl", 6}, {"rx", 6}, {"~", 6}, {"yl$p", 8}, {"yl$P", 7}, {">>", 6}, {"<<", 4}, {"gUl", 6}, {"x", 4}, {"dd", 9}, {"J", 16}, {"gJ", 15}, {"xu", 6}, {"xu␒", 4}, {"x.", 2}, {"ix␛", 7}, {"a␛", 6}, {"i␛", 5}, {"R␛", 5}, {"cwx␛", 6},
+		{":k a⏎", 6}, {":s/c/d⏎", 4}, {":set ic⏎", 6}, {":1⏎", 4}, {"ma`a", 6}, {"ma'a", 4}, {"H", 4},
+		{"vo␛", 6}, {"v␛gv␛", 6}, {"viw␛", 6}, {"vy", 6}, {"vrx", 6}, {"v~", 6}, {"vd", 4}, {"v>", 6}, {"yl$vp", 6}, {"yl$vP", 6}, {"vJ", 16}, {"vgJ", 15}, {"Vy", 6}, {"vcx␛", 6},
+		{"", 11}, {"v␛", 11}, {"V␛", 11}, {"vv", 11}, {"ma", 11}, {"qaq", 11}, {":␛", 11}, {":⏎", 11}, {"/␛", 11}, {"zt", 11}, {"v:␛", 11}, {"3␛", 11},
+	} {
+		x := load(t, "abc\nabcdefgh\nabcdefgh\n").does("$" + c.keys + "j")
+		if got := x.m.See().At; got != c.at {
+			t.Errorf("%q: %d, want %d", c.keys, got, c.at)
+		}
+	}
 }
 
 // TestGoalStays, P1804: what leaves the goal as it is.

@@ -115,6 +115,9 @@ func TestDeskListsAreNotWritten(t *testing.T) {
 	scribble(x.m.Desk().Find)
 	x.both(func(d *operate.Desk) { d.Find = spell("zz") })
 	x.does(".").sees("b d b", 0)
+	scribble(x.m.Desk().Find)
+	x.both(func(d *operate.Desk) { d.Find = spell("zz") })
+	x.does(".").sees("b", 0)
 	// what was typed into a line is not what stands in Find
 	x = load(t, "a b c b d b").does("/b⏎/c⌫zz␛n").at(6)
 	x.does("/d⏎").at(8).does(":xyzxyz␛n").at(8)

@@ -2,7 +2,6 @@ package modal_test
 
 import (
 	"math/rand"
-	"slices"
 	"strconv"
 	"strings"
 	"testing"
@@ -281,14 +280,5 @@ func TestRandomPlaying(t *testing.T) {
 	}
 	if done != 4500 {
 		t.Errorf("%d", done)
-	}
-}
-
-// TestRandomLists: what the machine tells is the same however often it is asked.
-func TestRandomLists(t *testing.T) {
-	x := load(t, "a b\nc")
-	one, two := x.m.See(), x.m.See()
-	if !sameSight(one, two) || slices.Equal(one.Text, nil) {
-		t.Errorf("%+v, %+v", one, two)
 	}
 }

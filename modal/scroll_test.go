@@ -73,6 +73,7 @@ func TestScrollingAtTheGoal(t *testing.T) {
 	x.does("␙").at(26).does("9␙").at(8).does("3␄").at(26).does("␕").at(17).does("3zt").at(11).does("9zz").at(33).does("1zb").at(4)
 	// a line that is still seen: the cursor stays where it is
 	x = usual.high(3).load(t, []byte(text)).does("$j0j").at(10).does("$").at(11).does("␅").at(11).does("k").at(8)
+	usual.high(3).load(t, []byte(text)).does("jvl").at(8).answers("r\x01", api.ErrKey).at(7).does("␅").at(7).does("j").at(11)
 	// the last line without a break, and empty ones
 	x = usual.high(1).load(t, []byte("ab\n\nab")).does("$␅").at(3).does("␅").at(5).refuses(5, api.ErrMove).does("␂").at(3)
 }

@@ -71,6 +71,14 @@ func TestInsertKeys(t *testing.T) {
 		{"A␕", "\n\tef e\u0301\u0302x\n\nlast", 0}, {"lli␕", "  c,d\n\tef e\u0301\u0302x\n\nlast", 0}, {"GA␕", "ab  c,d\n\tef e\u0301\u0302x\n\n", 18}, {"GA␕␕", "ab  c,d\n\tef e\u0301\u0302x\n", 17}, {"GA⏎⌫", "ab  c,d\n\tef e\u0301\u0302x\n\nlast", 22},
 		{"i␖␛", "\x1bab  c,d\n\tef e\u0301\u0302x\n\nlast", 1}, {"i␖⌫", "\bab  c,d\n\tef e\u0301\u0302x\n\nlast", 1}, {"i␖\x00", "\x00ab  c,d\n\tef e\u0301\u0302x\n\nlast", 1}, {"i␖␖", "\x16ab  c,d\n\tef e\u0301\u0302x\n\nlast", 1}, {"i␖⌦", "\x7fab  c,d\n\tef e\u0301\u0302x\n\nlast", 1}, {"i␖x", "xab  c,d\n\tef e\u0301\u0302x\n\nlast", 1},
 	})
+	load(t, "").does("i\ud7ff\ue000␖\ud7ff␖\ue000R").sees("\ud7ff\ue000\ud7ff\ue000R", 5)
+	for _, n := range []int{63, 64, 65, 200} { // words and blanks of some length
+		word, blanks := strings.Repeat("x", n), strings.Repeat(" ", n)
+		load(t, "a,"+word+blanks).does("A␗").sees("a,", 2)
+		load(t, word+blanks).does("A␗").sees("", 0)
+		load(t, "a\n"+blanks).does("jA␗").sees("a\n", 2)
+		load(t, word+","+word).does("A␗").sees(word+",", n+1)
+	}
 	x := load(t, "ab\n").does("i")
 	for _, k := range []int{api.KeyBack, api.KeyDelete, api.KeyCtrlW, api.KeyCtrlU} {
 		x.refuses(k, api.ErrNothing)
