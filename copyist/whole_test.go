@@ -401,6 +401,9 @@ func TestReplayed(t *testing.T) {
 		}
 		played := one.keys("@a")
 		pressed := two.e.Do(api.Step{Kind: api.StepKeys, Keys: spell(macro)})
+		if played.Err == api.ErrNested { // keys that happen to ask for a file or an end
+			continue
+		}
 		if played.Err != api.OK {
 			failed++
 		}
